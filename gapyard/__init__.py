@@ -1,0 +1,1 @@
+"""Gapyard: moments, and how far they may lie apart."""
