@@ -14,5 +14,10 @@ def is_name(thing):
 
 def is_number(thing):
     """Whether the thing is a whole number from -10 ** 60 to 10 ** 60."""
+    return is_whole(thing) and -GREATEST_NUMBER <= thing <= GREATEST_NUMBER
+
+
+def is_whole(thing):
+    """Whether the thing is a whole number, of any size."""
     # The exact kind is asked: True and False are of a kind derived from int.
-    return type(thing) == int and -GREATEST_NUMBER <= thing <= GREATEST_NUMBER
+    return type(thing) == int

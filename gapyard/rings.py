@@ -1,5 +1,8 @@
 """Rings: rows of moments whose gaps lead round at less than nothing."""
 
+from gapyard.draws import draw_round
+from gapyard.errors import Ring
+
 
 def ring(yard):
     """A ring of the yard, as a list of names, or None where there is none."""
@@ -11,24 +14,17 @@ def ring(yard):
     # Without a ring all gaps hold after fewer rounds than there are moments,
     # for no moment is drawn along a way that comes by a moment twice.
     for _ in names:
-        moved = _draw(gaps, numbers, sources)
+        moved = draw_round(gaps, numbers, sources)
         if moved is None:
             return None
     return _ring_behind(moved, sources, len(names))
 
 
-def _draw(gaps, numbers, sources):
-    """Make each gap hold in its turn; tells the last moment that moved, or None.
-
-    For each moment that moved, sources keeps the moment whose gap moved it.
-    """
-    moved = None
-    for one, other, most in gaps:
-        if numbers[one] + most < numbers[other]:
-            numbers[other] = numbers[one] + most
-            sources[other] = one
-            moved = other
-    return moved
+def check_no_ring(yard):
+    """Refuse a yard that has a ring."""
+    row = ring(yard)
+    if row is not None:
+        raise Ring(row)
 
 
 def _ring_behind(name, sources, many):

@@ -29,9 +29,7 @@ class Yard:
 
     def take(self, one, other):
         """Let the gap from one to other go; tells its most."""
-        check_pair(self, one, other)
-        if (one, other) not in self._mosts:
-            raise NoGap(f"no gap from {one} to {other}")
+        check_gap(self, one, other)
         return self._mosts.pop((one, other))
 
     def most(self, one, other):
@@ -47,6 +45,12 @@ class Yard:
             for other in self._names
             if (one, other) in self._mosts
         ]
+
+
+def check_gap(yard, one, other):
+    """Refuse what is not two unlike moments of the yard with a gap from one to other."""
+    if yard.most(one, other) is None:
+        raise NoGap(f"no gap from {one} to {other}")
 
 
 def check_pair(yard, one, other):

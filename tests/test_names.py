@@ -3,7 +3,7 @@
 import string
 import unittest
 
-from odd import NO_NAMES, NO_NUMBERS
+from helper import NO_NAMES, NO_NUMBERS
 
 from gapyard.names import is_name, is_number
 

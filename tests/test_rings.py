@@ -4,40 +4,12 @@ import itertools
 import random
 import unittest
 
+from helper import (
+    GREATEST, LETTERS, all_three_moment_yards, chance_yard, has_ring, is_ring, tight_yard, yard_round, yard_with,
+)
+
 from gapyard.rings import ring
 from gapyard.yard import Yard
-
-GREATEST = 10 ** 60
-LETTERS = [chr(ord("a") + place) for place in range(20)]
-
-
-def yard_of(names, gaps):
-    yard = Yard(names)
-    for one, other, most in gaps:
-        yard.put(one, other, most)
-    return yard
-
-
-def yard_round(names, mosts):
-    """A yard whose gaps lead once round all the names."""
-    return yard_of(names, zip(names, names[1:] + names[:1], mosts))
-
-
-def has_ring(yard):
-    """Whether there is a ring, by trying each row of moments."""
-    names = yard.names()
-    return any(
-        is_ring(yard, list(row))
-        for many in range(2, len(names) + 1)
-        for row in itertools.permutations(names, many)
-    )
-
-
-def is_ring(yard, row):
-    if len(row) < 2 or len(set(row)) < len(row):
-        return False
-    mosts = [yard.most(one, other) for one, other in zip(row, row[1:] + row[:1])]
-    return None not in mosts and sum(mosts) < 0
 
 
 class RingsTest(unittest.TestCase):
@@ -61,20 +33,20 @@ class RingsTest(unittest.TestCase):
 
     def test_one_gap(self):
         for most in (0, 1, -1, GREATEST, -GREATEST):
-            self.no_ring(yard_of(["a", "b"], [("a", "b", most)]))
-            self.no_ring(yard_of(["a", "b"], [("b", "a", most)]))
+            self.no_ring(yard_with(["a", "b"], [("a", "b", most)]))
+            self.no_ring(yard_with(["a", "b"], [("b", "a", most)]))
 
     def test_two_moments(self):
         for there in (0, 1, -1, 7, -7, GREATEST, -GREATEST, GREATEST - 1, 1 - GREATEST):
             for back in (0, 1, -1, 6, -6, 7, -7, GREATEST, -GREATEST):
-                yard = yard_of(["a", "b"], [("a", "b", there), ("b", "a", back)])
+                yard = yard_with(["a", "b"], [("a", "b", there), ("b", "a", back)])
                 if there + back < 0:
                     self.assertEqual(sorted(self.some_ring(yard)), ["a", "b"])
                 else:
                     self.no_ring(yard)
 
     def test_the_direction_of_a_ring(self):
-        yard = yard_of(["a", "b", "c"], [("a", "c", -1), ("c", "b", -1), ("b", "a", 1)])
+        yard = yard_with(["a", "b", "c"], [("a", "c", -1), ("c", "b", -1), ("b", "a", 1)])
         self.assertIn(self.some_ring(yard), [["a", "c", "b"], ["c", "b", "a"], ["b", "a", "c"]])
 
     def test_just_nought_and_one_below(self):
@@ -93,7 +65,7 @@ class RingsTest(unittest.TestCase):
     def test_a_ring_that_runs_against_the_order(self):
         for many in range(2, 21):
             names = LETTERS[:many]
-            yard = yard_of(names, [(one, other, 0) for one, other in zip(names[1:] + names[:1], names)])
+            yard = yard_with(names, [(one, other, 0) for one, other in zip(names[1:] + names[:1], names)])
             self.no_ring(yard)
             yard.put(names[0], names[-1], -1)
             self.assertEqual(sorted(self.some_ring(yard)), names)
@@ -101,16 +73,16 @@ class RingsTest(unittest.TestCase):
     def test_all_mosts_below_nought_without_a_way_back(self):
         for names in (LETTERS, LETTERS[::-1]):
             gaps = [(one, other, -GREATEST) for one, other in itertools.combinations(LETTERS, 2)]
-            self.no_ring(yard_of(names, gaps))
+            self.no_ring(yard_with(names, gaps))
 
     def test_a_ring_apart_from_the_start(self):
-        yard = yard_of(["s", "a", "b", "c"], [("a", "b", 2), ("b", "a", -3), ("s", "c", 4)])
+        yard = yard_with(["s", "a", "b", "c"], [("a", "b", 2), ("b", "a", -3), ("s", "c", 4)])
         self.assertEqual(sorted(self.some_ring(yard)), ["a", "b"])
 
     def test_a_long_tail_behind_a_ring(self):
         for names in (LETTERS, LETTERS[::-1]):
             gaps = [(one, other, -GREATEST) for one, other in zip(LETTERS, LETTERS[1:])]
-            yard = yard_of(names, gaps + [("b", "a", GREATEST - 1)])
+            yard = yard_with(names, gaps + [("b", "a", GREATEST - 1)])
             self.assertEqual(sorted(self.some_ring(yard)), ["a", "b"])
 
     def test_a_ring_comes_and_goes_with_the_gaps(self):
@@ -124,24 +96,17 @@ class RingsTest(unittest.TestCase):
         self.no_ring(yard)
 
     def test_all_yards_of_three_moments(self):
-        pairs = list(itertools.permutations(["a", "b", "c"], 2))
-        for mosts in itertools.product([None, -1, 0, 1], repeat=6):
-            gaps = [(*pair, most) for pair, most in zip(pairs, mosts) if most is not None]
-            yard = yard_of(["b", "a", "c"], gaps)
+        for yard in all_three_moment_yards([None, -1, 0, 1]):
             told = ring(yard)
             if has_ring(yard):
-                self.assertTrue(is_ring(yard, told), (told, gaps))
+                self.assertTrue(is_ring(yard, told), (told, yard.gaps()))
             else:
-                self.assertIsNone(told, gaps)
+                self.assertIsNone(told, yard.gaps())
 
     def test_yards_of_up_to_five_moments(self):
         chance = random.Random(1)
         for _ in range(1500):
-            names = chance.sample(LETTERS, chance.randint(2, 5))
-            pairs = list(itertools.permutations(names, 2))
-            chosen = chance.sample(pairs, chance.randint(0, len(pairs)))
-            low = chance.randint(-4, 0)
-            yard = yard_of(names, [(one, other, chance.randint(low, 6)) for one, other in chosen])
+            yard = chance_yard(chance, chance.randint(2, 5), chance.randint(-4, 0), 6)
             if has_ring(yard):
                 self.some_ring(yard)
             else:
@@ -153,20 +118,19 @@ class RingsTest(unittest.TestCase):
             for size in (3, GREATEST // 2):
                 names = chance.sample(LETTERS, many)
                 fit = {name: chance.randint(0, size) for name in names}
-                pairs = list(itertools.permutations(names, 2))
-                yard = yard_of(names, [(one, other, fit[other] - fit[one]) for one, other in pairs])
+                yard = tight_yard(fit)
                 self.assertEqual(len(yard.gaps()), many * (many - 1))
                 # Each way round comes to nought just: whatever gap gives way by one makes rings.
                 self.no_ring(yard)
-                one, other = chance.choice(pairs)
+                one, other = chance.sample(names, 2)
                 yard.put(one, other, fit[other] - fit[one] - 1)
                 told = self.some_ring(yard)
                 self.assertIn((one, other), list(zip(told, told[1:] + told[:1])))
 
     def test_all_380_gaps_at_the_ends(self):
         pairs = list(itertools.permutations(LETTERS, 2))
-        self.no_ring(yard_of(LETTERS, [(one, other, GREATEST) for one, other in pairs]))
-        self.some_ring(yard_of(LETTERS, [(one, other, -GREATEST) for one, other in pairs]))
+        self.no_ring(yard_with(LETTERS, [(one, other, GREATEST) for one, other in pairs]))
+        self.some_ring(yard_with(LETTERS, [(one, other, -GREATEST) for one, other in pairs]))
 
     def test_the_ring_told_is_the_askers(self):
         yard = yard_round(["a", "b", "c"], [1, 1, -3])

@@ -2,7 +2,7 @@
 
 import unittest
 
-from odd import NO_LISTS, NO_NAMES, NO_NUMBERS
+from helper import NO_LISTS, NO_NAMES, NO_NUMBERS
 
 from gapyard.errors import Alike, BadName, BadNumber, NoGap, NoMoment
 from gapyard.yard import Yard
@@ -264,10 +264,6 @@ class RefusedTest(unittest.TestCase):
         with self.assertRaises(NoMoment):
             yard.take("a", "b")
         self.assertEqual(yard.gaps(), [])
-
-    def test_methods_are_defined_in_the_class_itself(self):
-        for name in ("names", "put", "take", "most", "gaps"):
-            self.assertIn(name, vars(Yard))
 
 
 if __name__ == "__main__":
